@@ -1,0 +1,1 @@
+"""Seatclocks: clocks and rods that move, reckoned exactly by fractions."""

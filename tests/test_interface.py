@@ -1,0 +1,49 @@
+import ast
+import importlib
+import inspect
+import pathlib
+import unittest
+
+ROOT = pathlib.Path(__file__).resolve().parent.parent
+
+# Each file of the interface, its functions and their arguments.
+FUNCTIONS = {
+    "fractions": {
+        "is_fraction": ["thing"], "fraction": ["top", "bottom"], "plus": ["one", "other"], "less": ["one", "other"],
+        "times": ["one", "other"], "by": ["one", "other"], "is_less": ["one", "other"], "root_of": ["one"],
+    },
+    "haps": {"is_hap": ["thing"]},
+}
+CLASSES = {
+    "errors": [
+        "MotionError", "NoFraction", "NoHap", "NoText", "NoSpeed", "TooMany", "NotPlain", "NoStretch", "NoHaps",
+        "NoOrder", "NoStep", "NoNumber", "NoSeat", "NoRod", "NoWay", "NoFlash", "NoName", "NoDeed", "NoRow",
+    ],
+}
+
+
+def defined(file, kind):
+    """The names that a file of the package defines itself, by def or by class."""
+    tree = ast.parse((ROOT / "seatclocks" / (file + ".py")).read_text())
+    return [node.name for node in tree.body if isinstance(node, kind)]
+
+
+class Interface(unittest.TestCase):
+    def test_functions_are_defined_in_their_files(self):
+        for file, functions in FUNCTIONS.items():
+            self.assertEqual([name for name in functions if name not in defined(file, ast.FunctionDef)], [])
+
+    def test_classes_are_defined_in_their_files(self):
+        for file, classes in CLASSES.items():
+            self.assertEqual([name for name in classes if name not in defined(file, ast.ClassDef)], [])
+
+    def test_arguments(self):
+        for file, functions in FUNCTIONS.items():
+            module = importlib.import_module("seatclocks." + file)
+            for name, arguments in functions.items():
+                taken = inspect.signature(getattr(module, name)).parameters
+                self.assertEqual(list(taken), arguments, name)
+
+
+if __name__ == "__main__":
+    unittest.main()
