@@ -4,6 +4,9 @@ from math import gcd, isqrt
 
 from seatclocks.errors import NoFraction
 
+NOUGHT = (0, 1)
+ONE = (1, 1)
+
 
 def is_whole(thing):
     """Tell of anything whether it is a whole number."""

@@ -1,6 +1,7 @@
 """The rules of form that a short look at the package's files can tell."""
 
 import ast
+import builtins
 import pathlib
 import re
 import unittest
@@ -9,6 +10,10 @@ import warnings
 ROOT = pathlib.Path(__file__).resolve().parent.parent
 PACKAGE = ROOT / "seatclocks"
 FILES = sorted(PACKAGE.rglob("*.py"))
+
+# The builtins and the methods of builtin values that the package uses, all of them allowed.
+BUILTINS = ["ValueError", "abs", "bool", "divmod", "int", "isinstance", "len", "range", "str", "tuple"]
+METHODS = ["join", "partition", "removeprefix", "split", "zfill"]
 
 
 def nodes(kind):
@@ -43,6 +48,27 @@ class Form(unittest.TestCase):
         for name, node in nodes(ast.ImportFrom):
             self.assertTrue(node.module == "math" or node.module.startswith("seatclocks."), (name, node.module))
             self.assertEqual(node.level, 0)
+
+    def test_module_level(self):
+        for file in FILES:
+            for row in ast.parse(file.read_text()).body:
+                docstring = isinstance(row, ast.Expr) and isinstance(row.value, ast.Constant)
+                plain = isinstance(row, (ast.Assign, ast.ClassDef, ast.FunctionDef, ast.ImportFrom))
+                self.assertTrue(docstring or plain, (file.name, row.lineno))
+
+    def test_builtins_and_methods(self):
+        used = {node.id for name, node in nodes(ast.Name) if isinstance(node.ctx, ast.Load) and hasattr(builtins, node.id)}
+        self.assertEqual(sorted(used - set(BUILTINS)), [])
+        self.assertEqual(sorted({node.attr for name, node in nodes(ast.Attribute)} - set(METHODS)), [])
+
+    def test_no_name_has_another_meaning(self):
+        for file in FILES:
+            tree = ast.parse(file.read_text())
+            imported = [other.name for node in ast.walk(tree) if isinstance(node, ast.ImportFrom) for other in node.names]
+            made = [node.name for node in ast.walk(tree) if isinstance(node, (ast.FunctionDef, ast.ClassDef))]
+            made += [node.arg for node in ast.walk(tree) if isinstance(node, ast.arg)]
+            made += [node.id for node in ast.walk(tree) if isinstance(node, ast.Name) and isinstance(node.ctx, ast.Store)]
+            self.assertEqual([name for name in made if name in imported or hasattr(builtins, name)], [], file.name)
 
     def test_no_float_and_no_division_but_whole(self):
         self.assertEqual(nodes(ast.Div), [])

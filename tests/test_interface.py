@@ -13,6 +13,17 @@ FUNCTIONS = {
         "times": ["one", "other"], "by": ["one", "other"], "is_less": ["one", "other"], "root_of": ["one"],
     },
     "haps": {"is_hap": ["thing"]},
+    "texts": {"fraction_text": ["one"], "haps_text": ["haps"], "fraction_read": ["text"], "haps_read": ["text"]},
+    "speeds": {
+        "is_speed": ["thing"], "together": ["one", "other"], "taken": ["one", "other"], "many_times": ["speed", "often"],
+        "times_to_pass": ["speed", "other"], "is_plain": ["speed"], "beat_of": ["speed"], "stretch_of": ["speed"],
+        "speed_of": ["stretch"], "plain_between": ["one", "other"],
+    },
+    "seats": {
+        "is_seat": ["thing"], "told_from": ["seat", "hap"], "turned_back": ["seat", "told"], "seat_from": ["seat", "other"],
+        "seat_by": ["seat", "told"], "hap_by_clock": ["seat", "time"], "clock_at": ["seat", "time"],
+        "place_at": ["seat", "time"], "meeting": ["one", "other"],
+    },
 }
 CLASSES = {
     "errors": [
