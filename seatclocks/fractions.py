@@ -1,6 +1,6 @@
 """Fractions: tuples (top, bottom) of whole numbers in lowest terms, the bottom above 0."""
 
-from math import gcd, isqrt
+from math import gcd, isqrt, lcm
 
 from seatclocks.errors import NoFraction
 
@@ -57,6 +57,16 @@ def by(one, other):
 def is_less(one, other):
     """Tell whether the one fraction is less than the other one."""
     return one[0] * other[1] < other[0] * one[1]
+
+
+def rising(ones):
+    """Give the fractions of a list in their order, each once."""
+    bottom = 1
+    for one in ones:
+        bottom = lcm(bottom, one[1])
+    # Over one bottom the fractions stand as their tops do.
+    tops = sorted(set([one[0] * (bottom // one[1]) for one in ones]))
+    return [fraction(top, bottom) for top in tops]
 
 
 def root_of(one):

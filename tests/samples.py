@@ -2,6 +2,7 @@
 
 import copy
 import fractions
+import random
 import subprocess
 import sys
 import unittest
@@ -131,10 +132,120 @@ def no_seats():
     ] + other_things()
 
 
+# A lesser place and a greater one.
+PLACES = [
+    ((0, 1), (1, 1)), ((-1, 2), (0, 1)), ((-7, 1), (7, 3)), ((2, 3), (3, 4)), ((-5, 6), (-2, 3)),
+    ((-FORTY, 1), (FORTY, 1)), ((FORTY - 1, 1), (FORTY, 1)), ((1, FORTY), (1, FORTY - 1)),
+    ((-FORTY, FORTY - 1), (OTHER_FORTY, 10 ** 39)),
+]
+
+
+def no_places():
+    """Pairs that are not two places, the one less than the other."""
+    turned = [(far, near) for near, far in PLACES] + [(near, near) for near, far in PLACES]
+    bent = [(other, (5, 1)) for other in no_fractions()] + [((-5, 1), other) for other in no_fractions()]
+    return turned + bent
+
+
+def no_rods():
+    """Things that are no rod, though some are nearly one."""
+    rod = ((1, 2), (0, 1), (1, 1))
+    bent = [(other, (0, 1), (1, 1)) for other in no_speeds()] + [((1, 2), back, front) for back, front in no_places()]
+    return bent + [
+        list(rod), rod[:2], rod[1:], rod + ((2, 1),), rod + (None,), (rod,), [rod], ((1, 2), ((0, 1), (1, 1))),
+        ((0, 1), (1, 1), (1, 2)), (rod[1], rod[2]), {0: rod[0], 1: rod[1], 2: rod[2]}, {part: part for part in rod},
+        ([1, 2], (0, 1), (1, 1)), ((1, 2), [0, 1], (1, 1)), ((1, 2), (0, 1), [1, 1]), (0, 0, 1), ("1/2", "0", "1"),
+    ] + other_things()
+
+
+def no_gates():
+    """Things that are no gate, though some are nearly one."""
+    return no_places() + [
+        [(0, 1), (1, 1)], ((0, 1),), ((0, 1), (1, 1), (2, 1)), ((0, 1), (1, 1), None), {0: (0, 1), 1: (1, 1)},
+        {(0, 1): (0, 1), (1, 1): (1, 1)}, (((0, 1), (1, 1)),), [((0, 1), (1, 1))], ((1, 2), (0, 1), (1, 1)), (0, 1),
+    ] + other_things()
+
+
+def haps_at(rows):
+    """The haps at such times and places, whole numbers or fractions of Python's own library."""
+    return [(parted(fractions.Fraction(time)), parted(fractions.Fraction(place))) for time, place in rows]
+
+
+def lapse_and_gap(one, other):
+    """What the other hap's time and its place are more than the one's, as fractions of Python's own library."""
+    return (standard(other[0]) - standard(one[0]), standard(other[1]) - standard(one[1]))
+
+
+def kind_by_standard(one, other):
+    """What the other hap is to the one, as the document tells it."""
+    lapse, gap = lapse_and_gap(one, other)
+    if lapse == 0 and gap == 0:
+        return "same"
+    if lapse >= abs(gap):
+        return "later"
+    return "earlier" if -lapse >= abs(gap) else "beside"
+
+
+def chance_haps(seed, many, span):
+    """So many unlike haps, the same ones for the same seed."""
+    chosen = random.Random(seed)
+    rows = []
+    while len(rows) < many:
+        row = tuple(fractions.Fraction(chosen.randint(-span, span), chosen.choice([1, 1, 2, 3])) for _ in range(2))
+        if row not in rows:
+            rows.append(row)
+    return haps_at(rows)
+
+
+# Eight haps of which each two that are beside one another are so from a speed of their own.
+EIGHT_ASUNDER = haps_at([(fractions.Fraction(at ** 3, 1000), at) for at in [0, 1, 3, 4, 6, 7, 9, 12]])
+FLASH = haps_at([(at, 5 - at) for at in [0, 3, 1, 7, 2, 4, 6, 5]])
+EVEN = haps_at([(0, at) for at in [4, 0, 7, 1, 3, 2, 6, 5]])
+LONG_HAPS = [
+    ((FORTY, 1), (1, FORTY)), ((-FORTY, FORTY - 1), (OTHER_FORTY, 10 ** 39)), ((1, OTHER_FORTY), (-FORTY, 1)),
+    ((FORTY, OTHER_FORTY), (FORTY - 1, OTHER_FORTY)), ((-1, FORTY), (1, FORTY)), ((1, FORTY), (-1, FORTY)),
+    ((0, 1), (0, 1)), ((FORTY - 1, 1), (1 - FORTY, 1)),
+]
+# Lists of one to eight haps: few and many, in and out of their turn, along flashes, at one time, of forty figures.
+HAP_LISTS = [
+    haps_at([(0, 0)]), haps_at([(-2, 7)]), haps_at([(0, 0), (1, 0)]), haps_at([(3, 1), (0, 0)]),
+    haps_at([(0, 0), (1, 2)]), haps_at([(0, 0), (1, 1)]), haps_at([(1, -1), (0, 0)]),
+    haps_at([(0, 0), (0, 1), (0, -1)]), haps_at([(0, 0), (3, 5), (6, 10), (1, 0), (4, 5)]),
+    haps_at([(0, 0), (0, 4), (2, 2), (-2, 2), (0, 2)]), haps_at([(at, 0) for at in [3, 1, 2, 0, 5, 4]]),
+    EIGHT_ASUNDER, list(reversed(EIGHT_ASUNDER)), FLASH, EVEN, LONG_HAPS,
+] + [chance_haps(seed, 1 + seed % 8, 4) for seed in range(24)]
+
+
+def no_hap_lists(most):
+    """Things that are no list of one hap to so many, no two the same, though some are nearly one."""
+    one, other, third = haps_at([(0, 0), (1, 3), (2, 1)])
+    return [
+        [], haps_at([(at, 0) for at in range(most + 1)]), haps_at([(0, at) for at in range(most + 5)]),
+        [one] * 2, [one, other, ((0, 1), (0, 1))], [one, other, third, other], [one] * (most + 1),
+        (one,), (one, other), one, {one: other}, {0: one, 1: other}, "0@0", ["0@0", "1@3"], [[one, other]],
+        [(one, other)],
+        [one, None], [None], [one, other, (0, 1)], [one, list(other)], [list(one)], [one, (list(other[0]), other[1])],
+        [one, ((2, 2), (3, 1))], [one, ((1, True), (3, 1))], [one, ((True, 1), (3, 1))], [one, other + (third,)],
+        [one, ((1, -1), (0, 1))], [one, [[], {}]], [{}], [[]], [one, nested("list", 58)], [(0, 1), (1, 1)],
+    ] + [[one, other, thing] for thing in no_haps()[::5]] + other_things()
+
+
 def ended_quick(program):
     """What the program prints, in a Python of its own that is stopped after a minute, so that a slow search is."""
     ended = subprocess.run([sys.executable, "-c", program], capture_output=True, text=True, timeout=60)
     return ended.stdout + ended.stderr
+
+
+def spoil(thing):
+    """Change each list and each dict in the thing."""
+    if isinstance(thing, dict):
+        spoil(list(thing.values()))
+        thing["spoilt"] = "spoilt"
+    if isinstance(thing, (list, tuple)):
+        for part in thing:
+            spoil(part)
+    if isinstance(thing, list):
+        thing.append("spoilt")
 
 
 class Case(unittest.TestCase):
@@ -174,3 +285,17 @@ class Case(unittest.TestCase):
             self.assertIs(call(thing), expected, str(thing)[:200])
             self.assertIs(call(thing), expected, str(thing)[:200])
             self.assertTrue(thing == twin and type(thing) is type(twin))
+
+    def check_own(self, call, *handed):
+        """What is told hangs on nothing that is done later, and is told again whatever the asker does to it."""
+        lent = copy.deepcopy(handed)
+        told = call(*lent)
+        kept = copy.deepcopy(told)
+        self.assertEqual(lent, handed)
+        spoil(lent)
+        self.assertEqual(told, kept)
+        again = call(*handed)
+        spoil(told)
+        self.assertEqual(again, kept)
+        self.assertEqual(call(*handed), kept)
+        return kept

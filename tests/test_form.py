@@ -12,8 +12,12 @@ PACKAGE = ROOT / "seatclocks"
 FILES = sorted(PACKAGE.rglob("*.py"))
 
 # The builtins and the methods of builtin values that the package uses, all of them allowed.
-BUILTINS = ["ValueError", "abs", "bool", "divmod", "int", "isinstance", "len", "range", "str", "tuple"]
-METHODS = ["join", "partition", "removeprefix", "split", "zfill"]
+BUILTINS = [
+    "ValueError", "abs", "all", "any", "bool", "divmod", "enumerate", "int", "isinstance", "len", "list", "max", "min",
+    "range", "set", "sorted", "str", "tuple", "zip",
+]
+LIBRARY = ["itertools", "math"]
+METHODS = ["append", "index", "join", "partition", "removeprefix", "split", "zfill"]
 
 
 def nodes(kind):
@@ -46,7 +50,7 @@ class Form(unittest.TestCase):
     def test_imports(self):
         self.assertEqual(nodes(ast.Import), [])
         for name, node in nodes(ast.ImportFrom):
-            self.assertTrue(node.module == "math" or node.module.startswith("seatclocks."), (name, node.module))
+            self.assertTrue(node.module in LIBRARY or node.module.startswith("seatclocks."), (name, node.module))
             self.assertEqual(node.level, 0)
 
     def test_module_level(self):

@@ -24,6 +24,20 @@ FUNCTIONS = {
         "seat_by": ["seat", "told"], "hap_by_clock": ["seat", "time"], "clock_at": ["seat", "time"],
         "place_at": ["seat", "time"], "meeting": ["one", "other"],
     },
+    "rods": {
+        "is_rod": ["thing"], "rod_from": ["rod", "speed"], "length_from": ["rod", "speed"], "own_length": ["rod"],
+        "is_no_longer": ["rod", "other", "speed"], "like_speed": ["rod", "other"], "within": ["rod", "gate"],
+        "gate_haps": ["rod", "gate"],
+    },
+    "orders": {
+        "kind_of": ["one", "other"], "even_speed": ["one", "other"], "order_at": ["haps", "speed"], "turns": ["haps"],
+        "orders": ["haps"], "speed_for": ["haps", "order"], "none_for": ["haps", "order"],
+        "shows_none": ["haps", "order", "thing"],
+    },
+    "chains": {
+        "reached": ["haps"], "between": ["haps", "i", "j"], "is_chain": ["haps", "thing"], "longest_chain": ["haps"],
+        "fewest_chains": ["haps"], "shows_fewest": ["haps", "thing"], "steps_of": ["haps"],
+    },
 }
 CLASSES = {
     "errors": [
