@@ -241,7 +241,7 @@ class Fewest(ChainCase):
 
     def test_all_choices_of_short_lists(self):
         shown = 0
-        for haps in [haps for haps in SHORT if 2 <= len(haps) <= 3]:
+        for haps in [haps for haps in SHORT if 2 <= len(haps) <= 3][:8]:
             numbers = range(len(haps))
             rows = [row for size in range(0, 4) for row in itertools.product(numbers, repeat=size)]
             for many in [1, 2, 3]:

@@ -17,7 +17,10 @@ BUILTINS = [
     "range", "set", "sorted", "str", "tuple", "zip",
 ]
 LIBRARY = ["itertools", "math"]
-METHODS = ["append", "index", "join", "partition", "removeprefix", "split", "zfill"]
+METHODS = [
+    "append", "copy", "extend", "get", "index", "join", "partition", "pop", "removeprefix", "split", "values",
+    "zfill",
+]
 
 
 def nodes(kind):
@@ -63,13 +66,18 @@ class Form(unittest.TestCase):
     def test_builtins_and_methods(self):
         used = {node.id for name, node in nodes(ast.Name) if isinstance(node.ctx, ast.Load) and hasattr(builtins, node.id)}
         self.assertEqual(sorted(used - set(BUILTINS)), [])
-        self.assertEqual(sorted({node.attr for name, node in nodes(ast.Attribute)} - set(METHODS)), [])
+        attributes = {node.attr for name, node in nodes(ast.Attribute)}
+        own = {row.name for name, node in nodes(ast.ClassDef) for row in node.body if isinstance(row, ast.FunctionDef)}
+        own |= {node.attr for name, node in nodes(ast.Attribute) if isinstance(node.ctx, ast.Store)}
+        self.assertEqual(sorted(attributes - own - set(METHODS)), [])
+        self.assertEqual(sorted(own & set(METHODS)), [])
 
     def test_no_name_has_another_meaning(self):
         for file in FILES:
             tree = ast.parse(file.read_text())
             imported = [other.name for node in ast.walk(tree) if isinstance(node, ast.ImportFrom) for other in node.names]
             made = [node.name for node in ast.walk(tree) if isinstance(node, (ast.FunctionDef, ast.ClassDef))]
+            made = [name for name in made if name != "__init__"]
             made += [node.arg for node in ast.walk(tree) if isinstance(node, ast.arg)]
             made += [node.id for node in ast.walk(tree) if isinstance(node, ast.Name) and isinstance(node.ctx, ast.Store)]
             self.assertEqual([name for name in made if name in imported or hasattr(builtins, name)], [], file.name)

