@@ -1,10 +1,8 @@
 """Chains: which haps can reach which, and chains of haps that reach one another."""
 
-from itertools import combinations
-
 from seatclocks.fractions import less, plus, rising
 from seatclocks.haps import check_haps, check_numbers, is_number
-from seatclocks.orders import kind_of
+from seatclocks.orders import kind_of, pairs_of
 
 MOST_HAPS = 12
 
@@ -127,7 +125,7 @@ def are_apart(ahead, thing):
     """Tell of anything whether it is a rising tuple of numbers of haps of which none can reach another one."""
     if not are_numbers(ahead, thing) or not all([one < other for one, other in zip(thing, thing[1:])]):
         return False
-    return not any([one in ahead[other] or other in ahead[one] for one, other in combinations(list(thing), 2)])
+    return not any([one in ahead[other] or other in ahead[one] for one, other in pairs_of(thing)])
 
 
 def shows_fewest(haps, thing):

@@ -73,6 +73,12 @@ def check_order(haps, thing):
         raise NoOrder("an order is a tuple of all numbers of the haps, each once")
 
 
+def pairs_of(numbers):
+    """Give each two numbers of a tuple, the one that stands ahead first."""
+    row = list(numbers)
+    return list(combinations(row, 2))
+
+
 def is_ahead_above(haps, i, j):
     """Tell whether hap i is ahead of hap j just from speeds above some bound, which is their even speed."""
     return kind_of(haps[i], haps[j]) == "beside" and is_less(haps[j][1], haps[i][1])
@@ -80,7 +86,7 @@ def is_ahead_above(haps, i, j):
 
 def bounds_of(haps, order):
     """Give the pairs of an order that stand so just from speeds above a bound, and those just from speeds below."""
-    pairs = list(combinations(list(order), 2))
+    pairs = pairs_of(order)
     above = [(i, j) for i, j in pairs if is_ahead_above(haps, i, j)]
     below = [(i, j) for i, j in pairs if is_ahead_above(haps, j, i)]
     return (above, below)
@@ -107,7 +113,7 @@ def none_for(haps, order):
     """Give some paper that shows that no seat tells the order, or None where some seat does."""
     check_haps(haps, MOST_HAPS)
     check_order(haps, order)
-    for i, j in combinations(list(order), 2):
+    for i, j in pairs_of(order):
         if kind_of(haps[j], haps[i]) == "later":
             return ("later", i, j)
     above, below = bounds_of(haps, order)
